@@ -1,0 +1,1 @@
+"""Rayround: rays with whole numbers that go once round the plane."""

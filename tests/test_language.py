@@ -1,0 +1,112 @@
+"""The package keeps to the part of Python that it is written in, as far as a short look can tell."""
+
+import ast
+import builtins
+import re
+import unittest
+from pathlib import Path
+
+PACKAGE = Path(__file__).resolve().parent.parent / "rayround"
+FILES = sorted(path for path in PACKAGE.rglob("*.py"))
+
+ALLOWED_BUILTINS = set("""
+len range enumerate zip min max sum abs sorted reversed int str bool bytes list tuple dict set frozenset
+isinstance ord repr any all divmod Exception ValueError TypeError KeyError IndexError LookupError
+ZeroDivisionError ArithmeticError OverflowError RuntimeError NotImplementedError AttributeError StopIteration
+""".split())
+NO_WORDS = re.compile(
+    r"\b(type|typing|typing_extensions|enum|Enum|IntEnum|StrEnum|Flag|IntFlag|Generic|Protocol|ABC|ABCMeta"
+    r"|namedtuple|NamedTuple|TypedDict|TYPE_CHECKING|abstractmethod)\b|dataclass|overload|contextmanager"
+)
+NO_NODES = (
+    ast.With, ast.Match, ast.Global, ast.Nonlocal, ast.Yield, ast.YieldFrom, ast.Await, ast.AsyncFunctionDef,
+    ast.AsyncFor, ast.AsyncWith, ast.NamedExpr, ast.GeneratorExp, ast.Div, ast.MatMult, ast.Import, ast.TryStar,
+)
+DUNDERS = {"__init__", "__eq__", "__repr__", "__str__", "__len__"}
+
+
+def parsed(path):
+    return ast.parse(path.read_text(encoding="utf-8"))
+
+
+def nodes():
+    return [(path.name, node) for path in FILES for node in ast.walk(parsed(path))]
+
+
+def names_given(node):
+    """The names that a node binds or asks as a value."""
+    if isinstance(node, (ast.FunctionDef, ast.ClassDef)):
+        return [node.name]
+    if isinstance(node, ast.Name):
+        return [node.id]
+    if isinstance(node, ast.arg):
+        return [node.arg]
+    if isinstance(node, ast.Attribute):
+        return [node.attr]
+    return []
+
+
+class Language(unittest.TestCase):
+    def test_there_are_files_and_nothing_else(self):
+        self.assertIn(PACKAGE / "__init__.py", FILES)
+        for path in PACKAGE.rglob("*"):
+            if "__pycache__" not in path.parts:
+                self.assertEqual(path.suffix, ".py", path)
+                self.assertRegex(path.name, r"^[a-z0-9_]+\.py$")
+
+    def test_signs_and_sizes(self):
+        for path in FILES:
+            text = path.read_bytes().decode("ascii")
+            self.assertRegex(text, r"\A[ -~\n]*\Z", path)
+            rows = text.split("\n")
+            self.assertLessEqual(len(rows), 400, path)
+            self.assertLessEqual(max(len(row) for row in rows), 120, path)
+            self.assertIsNone(NO_WORDS.search(text), path)
+
+    def test_functions_are_short_and_plain(self):
+        for name, node in nodes():
+            if isinstance(node, ast.FunctionDef):
+                self.assertLessEqual(node.end_lineno - node.lineno + 1, 40, (name, node.name))
+                self.assertEqual(node.decorator_list, [])
+                self.assertIsNone(node.args.vararg or node.args.kwarg)
+                self.assertEqual(node.args.posonlyargs, [])
+
+    def test_no_node_is_outside(self):
+        for name, node in nodes():
+            self.assertNotIsInstance(node, NO_NODES, (name, getattr(node, "lineno", 0)))
+            if isinstance(node, ast.Constant):
+                self.assertNotIsInstance(node.value, (float, complex))
+                if isinstance(node.value, str):
+                    self.assertNotIn("%", node.value, name)
+
+    def test_is_stands_beside_none_and_truths_alone(self):
+        for name, node in nodes():
+            if isinstance(node, ast.Compare) and any(isinstance(op, (ast.Is, ast.IsNot)) for op in node.ops):
+                sides = [node.left] + node.comparators
+                self.assertTrue(any(isinstance(side, ast.Constant) and side.value in (None, True, False)
+                                    for side in sides), (name, node.lineno))
+
+    def test_imports_stand_at_the_top_and_draw_from_the_package_alone(self):
+        for path in FILES:
+            tree = parsed(path)
+            rows = [node for node in ast.walk(tree) if isinstance(node, ast.ImportFrom)]
+            self.assertEqual(rows, [row for row in tree.body if isinstance(row, ast.ImportFrom)], path)
+            for row in rows:
+                self.assertEqual(row.level, 0, path)
+                self.assertTrue(row.module.startswith("rayround."), (path, row.module))
+
+    def test_names(self):
+        for name, node in nodes():
+            for word in names_given(node):
+                self.assertTrue(word in DUNDERS or re.fullmatch(r"[A-Za-z][A-Za-z0-9_]*", word), (name, word))
+            if isinstance(node, ast.Name) and isinstance(node.ctx, ast.Load) and hasattr(builtins, node.id):
+                self.assertIn(node.id, ALLOWED_BUILTINS, name)
+            bound = [node.arg] if isinstance(node, ast.arg) else []
+            if isinstance(node, ast.Name) and isinstance(node.ctx, ast.Store):
+                bound = [node.id]
+            for word in bound:
+                self.assertFalse(hasattr(builtins, word), (name, word))
+
+
+if __name__ == "__main__":
+    unittest.main()
