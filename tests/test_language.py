@@ -95,6 +95,42 @@ class Language(unittest.TestCase):
                 self.assertEqual(row.level, 0, path)
                 self.assertTrue(row.module.startswith("rayround."), (path, row.module))
 
+    def test_names_are_drawn_from_the_file_that_defines_them_and_never_in_a_ring(self):
+        drawn = {}
+        for path in FILES:
+            rows = [row for row in parsed(path).body if isinstance(row, ast.ImportFrom)]
+            drawn[path.stem] = {row.module.split(".")[1] for row in rows}
+            for row in rows:
+                source = parsed(PACKAGE / (row.module.split(".")[1] + ".py"))
+                defined = {node.name for node in source.body if isinstance(node, (ast.FunctionDef, ast.ClassDef))}
+                for alias in row.names:
+                    self.assertIn(alias.name, defined, (path.name, row.module))
+                    self.assertIsNone(alias.asname, path.name)
+        while drawn:
+            done = [name for name in drawn if not drawn[name] & set(drawn)]
+            self.assertTrue(done, f"these draw from one another: {sorted(drawn)}")
+            for name in done:
+                del drawn[name]
+
+    def test_no_name_within_a_def_is_like_an_import_or_a_class(self):
+        for path in FILES:
+            tree = parsed(path)
+            taken = {alias.name for node in tree.body if isinstance(node, ast.ImportFrom) for alias in node.names}
+            taken |= {node.name for node in tree.body if isinstance(node, ast.ClassDef)}
+            for node in ast.walk(tree):
+                if isinstance(node, ast.arg):
+                    self.assertNotIn(node.arg, taken, path.name)
+                if isinstance(node, ast.Name) and isinstance(node.ctx, ast.Store):
+                    self.assertNotIn(node.id, taken, path.name)
+
+    def test_every_import_is_used(self):
+        for path in FILES:
+            tree = parsed(path)
+            used = {node.id for node in ast.walk(tree) if isinstance(node, ast.Name)}
+            for row in tree.body:
+                if isinstance(row, ast.ImportFrom):
+                    self.assertLessEqual({alias.name for alias in row.names}, used, path.name)
+
     def test_names(self):
         for name, node in nodes():
             for word in names_given(node):
