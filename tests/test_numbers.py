@@ -8,7 +8,9 @@ from rayround.errors import NoRow, NotSmooth
 from rayround.leastrounds import least_round
 from rayround.numbers import numbers, round_by, times_round
 from rayround.rounds import look_round, unspanned
-from made import GROWN, LED, LONG, ROUGH, SMALL_SMOOTH, SMOOTH, THREE, TURNINGS, begun, led_round, slanted, with_one_more
+from made import (
+    GROWN, LED, LONG, ROUGH, SMALL_SMOOTH, SMOOTH, THREE, TURNINGS, begun, led_round, slanted, with_one_more,
+)
 
 
 def closes_by_words(row):

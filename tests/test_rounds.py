@@ -17,7 +17,9 @@ TWICE = [
     [(5, -1), (-4, 3), (1, -3), (1, 3), (-4, -3)],
     [(1, 1), (-1, 0), (1, -1), (0, 1), (-1, -1), (2, -1), (1, 0), (-1, 1), (-1, -2)],
 ]
-THRICE = [THREE * 3, slanted(0) * 3, THREE + slanted(1) + slanted(2), TWICE[3] + THREE, TWICE[6] + [(1, 1), (-1, 0), (1, -1)]]
+THRICE = [
+    THREE * 3, slanted(0) * 3, THREE + slanted(1) + slanted(2), TWICE[3] + THREE, TWICE[6] + [(1, 1), (-1, 0), (1, -1)],
+]
 LOOKED = [THREE, slanted(2), [(2, 1), (-1, 1), (-1, -2)], FAR[5], FAR[-1]]
 
 

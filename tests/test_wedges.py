@@ -179,7 +179,8 @@ class Fractions(unittest.TestCase):
                     self.assertEqual(fraction_by_words(numbers), (top, bottom))
 
     def test_a_ratio_that_is_not_above_one(self):
-        for ratio in [(1, 1), (0, 1), (-1, 1), (1, 2), (-5, 2), (199, 200), (-7, 1), (10 ** 59, 10 ** 59 + 1), (-(10 ** 60), 7)]:
+        near = [(1, 1), (0, 1), (-1, 1), (1, 2), (-5, 2), (199, 200), (-7, 1)]
+        for ratio in near + [(10 ** 59, 10 ** 59 + 1), (-(10 ** 60), 7)]:
             with self.assertRaises(NoWedge):
                 row_of(ratio)
 
