@@ -14,6 +14,11 @@ def crossed(one, other):
     return one[0] * other[1] - one[1] * other[0]
 
 
+def product(one, other):
+    """A pair times a ray, or times another pair: the first numbers' product and the second ones' together."""
+    return one[0] * other[0] + one[1] * other[1]
+
+
 def common(pair):
     """The greatest whole number that divides both numbers of a pair, 0 of (0, 0)."""
     return greatest_divisor(pair[0], pair[1])

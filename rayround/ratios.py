@@ -36,3 +36,32 @@ def less(one, other):
     """Whether the first ratio is less than the second."""
     # Both bottoms are above 0, so the order stays when they are multiplied away.
     return one[0] * other[1] < other[0] * one[1]
+
+
+def is_ratio(thing):
+    """Whether a thing, any thing, is a ratio."""
+    if not isinstance(thing, tuple) or len(thing) != 2 or not is_whole(thing[0]) or not is_whole(thing[1]):
+        return False
+    return thing[1] >= 1 and greatest_divisor(thing[0], thing[1]) == 1
+
+
+def greatest(ones):
+    """The greatest of a list of ratios, one at least."""
+    best = ones[0]
+    for one in ones:
+        if less(best, one):
+            best = one
+    return best
+
+
+def common_bottom(ones):
+    """The least whole number from 1 on by which each of the ratios comes to a whole number."""
+    bottom = 1
+    for one in ones:
+        bottom = bottom * (one[1] // greatest_divisor(bottom, one[1]))
+    return bottom
+
+
+def stretched(one, bottom):
+    """A ratio as many times as a common bottom tells, a whole number."""
+    return one[0] * (bottom // one[1])

@@ -87,3 +87,7 @@ EDGE = [
     [(1, -1), (199, 200), (-200, -1)],
 ]
 EVERY = SMOOTH + ROUGH + FAR + EDGE
+NOT_SMOOTH = [
+    rays for rays in ROUGH + FAR + EDGE
+    if any(cross(ray, rays[at + 1 - len(rays)]) != 1 for at, ray in enumerate(rays))
+]

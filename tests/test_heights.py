@@ -6,28 +6,14 @@ from fractions import Fraction
 
 from rayround.errors import NoHeight, NotSmooth
 from rayround.heights import bends, crossing, crossings, fold, plain, slope
-from rayround.numbers import numbers
 from rayround.rounds import unspanned
+from heighted import (
+    HeightCase, bends_by_words, broken_height, read, slope_of, together, told_as, unit, whole_height,
+)
 from made import EDGE, FAR, GROWN, LED, LONG, ROUGH, SMALL_SMOOTH, THREE, begun, slanted
 
 NOT_SMOOTH = [rays for rays in ROUGH + FAR + EDGE if unspanned(rays) is not None]
 HEIGHTED = SMALL_SMOOTH + GROWN + LED[::2] + LONG
-
-
-def told_as(value):
-    return (value.numerator, value.denominator)
-
-
-def read(ratio):
-    return Fraction(ratio[0], ratio[1])
-
-
-def whole_height(dice, many, high=9):
-    return [(dice.randint(-high, high), 1) for _ in range(many)]
-
-
-def broken_height(dice, many, high=9):
-    return [told_as(Fraction(dice.randint(-high, high), dice.randint(1, high))) for _ in range(many)]
 
 
 def heights_of(rays, seed):
@@ -40,43 +26,11 @@ def heights_of(rays, seed):
     ]
 
 
-def slope_of(m, rays):
-    return [told_as(read(m[0]) * x + read(m[1]) * y) for x, y in rays]
-
-
-def together(one, other):
-    return [told_as(read(a) + read(b)) for a, b in zip(one, other)]
-
-
-def unit(many, at):
-    return [(int(k == at), 1) for k in range(many)]
-
-
-def bends_by_words(rays, height):
-    told = []
-    for at, number in enumerate(numbers(rays)):
-        told.append(read(height[at - 1]) + read(height[at + 1 - len(rays)]) + number * read(height[at]))
-    return told
-
-
 def crossing_by_words(rays, one, other):
     return sum((read(a) * b for a, b in zip(one, bends_by_words(rays, other))), Fraction(0))
 
 
 SLOPES = [((0, 1), (0, 1)), ((1, 1), (0, 1)), ((0, 1), (-1, 1)), ((3, 7), (-5, 2)), ((10 ** 40, 3), (1, 10 ** 50))]
-
-
-class HeightCase(unittest.TestCase):
-    def assert_ratio(self, thing):
-        self.assertIs(type(thing), tuple)
-        self.assertEqual([type(number) for number in thing], [int, int])
-        self.assertEqual(thing, told_as(read(thing)))
-
-    def assert_height(self, thing, many):
-        self.assertIs(type(thing), list)
-        self.assertEqual(len(thing), many)
-        for ratio in thing:
-            self.assert_ratio(ratio)
 
 
 class Bends(HeightCase):
