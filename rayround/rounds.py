@@ -30,6 +30,15 @@ def look_round(thing):
         raise NoRound("turns", 0)
 
 
+def is_round(thing):
+    """Whether a thing, any thing, is a round."""
+    try:
+        look_round(thing)
+    except NoRound:
+        return False
+    return True
+
+
 def unspanned(rays):
     """None of a smooth round, else the number of the first ray that does not cross the next one in 1."""
     for at, ray in enumerate(rays):

@@ -177,6 +177,26 @@ def bends_by_words(rays, height):
     return told
 
 
+def crosses_below_nought(table):
+    """Whether a table of fractions, alike on both sides, crosses each mixture with itself below 0."""
+    rows = [[Fraction(number) for number in line] for line in table]
+    for at, line in enumerate(rows):
+        if line[at] >= 0:
+            return False
+        for later in rows[at + 1:]:
+            part = later[at] / line[at]
+            for k, number in enumerate(line):
+                later[k] -= part * number
+    return True
+
+
+def many_heights(rays, seed):
+    dice = random.Random(f"{seed} {rays}")
+    heights = heights_for(rays, seed)
+    lifted = [together(height, [(dice.randint(1, 5), 1)] * len(rays)) for height in heights[:5]]
+    return heights + lifted + [broken_height(dice, len(rays), 10 ** 30)]
+
+
 class Refused(HeightCase):
     def assert_refused(self, error, deed, rays, *more):
         kept = (list(rays), [list(one) if isinstance(one, list) else one for one in more])

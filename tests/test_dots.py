@@ -1,10 +1,11 @@
 """Promise 20: the dots of heights, and how many the crossings tell."""
 
+import math
 import random
 import unittest
 from fractions import Fraction
 
-from rayround.dots import dots, dots_by_crossing
+from rayround.dots import dots, dots_by_crossing, two_ways
 from rayround.errors import NoBend
 from rayround.heights import bends, fold
 from rayround.numbers import round_by
@@ -16,6 +17,11 @@ from heighted import (
 from made import LONG, THREE, TURNINGS, begun, grown, led_round, slanted
 
 FAR_TURNINGS = [((199, 200), (198, 199)), ((100, 99), (-101, -100)), ((89, 144), (55, 89)), ((0, 1), (1, 197))]
+# Rays of so many figures come of rays put in: a row too many for each of their numbers would never end.
+FARTHEST_TURNINGS = [
+    ((10 ** 20, 10 ** 20 - 1), (10 ** 20 + 1, 10 ** 20)), ((-(10 ** 30), 1), (-1, 0)), ((1, 10 ** 25), (0, -1)),
+    ((2 ** 70, 2 ** 70 * 3 ** 40 + 1), (1, 3 ** 40)),
+]
 
 
 class DotCase(Refused):
@@ -81,6 +87,24 @@ class Dots(DotCase):
                 self.assert_dots(dots(rays, height), expected)
 
 
+class TwoWays(unittest.TestCase):
+    def width(self, points, ray):
+        given = [x * ray[0] + y * ray[1] for x, y in points]
+        return max(given) - min(given)
+
+    def test_the_first_way_is_one_of_least_width(self):
+        dice = random.Random("ways")
+        rays = [(x, y) for x in range(-30, 31) for y in range(31) if math.gcd(x, y) == 1]
+        for high, wide in [(0, 0), (1, 1), (9, 9), (40, 3), (3, 40), (300, 30)]:
+            for many in (1, 2, 3, 6):
+                points = [(dice.randint(-high, high), dice.randint(-wide, wide)) for _ in range(many)]
+                askew = [(x + 7 * y + 1000, 3 * x + 22 * y - 500) for x, y in points]
+                for some in (points, askew):
+                    narrow, other = two_ways(some)
+                    self.assertEqual(narrow[0] * other[1] - narrow[1] * other[0], 1)
+                    self.assertLessEqual(self.width(some, narrow), min(self.width(some, ray) for ray in rays))
+
+
 class FarDots(DotCase):
     """Few dots, in boxes that have far more pairs than can be tried."""
 
@@ -93,13 +117,13 @@ class FarDots(DotCase):
         ]:
             height = [(along, 1), low, (along, 1), high]
             self.assert_dots(dots(slanted(0), height), expected)
-            for turning in FAR_TURNINGS + TURNINGS:
+            for turning in FAR_TURNINGS + FARTHEST_TURNINGS + TURNINGS:
                 self.assert_led(turning, slanted(0), height, expected)
 
     def test_one_far_away_from_the_other_within_opposite_heights(self):
         height = [(-4990, 1), (0, 1), (5000, 1), (1, 1)]
         expected = [(x, y) for y in (0, 1) for x in range(4990, 5001)]
-        for turning in FAR_TURNINGS + TURNINGS:
+        for turning in FAR_TURNINGS + FARTHEST_TURNINGS + TURNINGS:
             self.assert_led(turning, slanted(0), height, expected)
 
     def test_splinters(self):
@@ -125,7 +149,7 @@ class FarDots(DotCase):
             ]
             looked += len(expected) > 0
             self.assert_dots(dots(rays, height), expected)
-            for turning in FAR_TURNINGS:
+            for turning in FAR_TURNINGS + FARTHEST_TURNINGS:
                 self.assert_led(turning, rays, height, expected)
         self.assertGreater(looked, 12)
 

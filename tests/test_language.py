@@ -22,6 +22,11 @@ NO_NODES = (
     ast.With, ast.Match, ast.Global, ast.Nonlocal, ast.Yield, ast.YieldFrom, ast.Await, ast.AsyncFunctionDef,
     ast.AsyncFor, ast.AsyncWith, ast.NamedExpr, ast.GeneratorExp, ast.Div, ast.MatMult, ast.Import, ast.TryStar,
 )
+METHODS = set("""
+append clear copy count endswith extend find get index insert isalnum isalpha isdigit islower isspace isupper items
+join keys ljust lower lstrip partition pop remove replace reverse rfind rjust rpartition rsplit rstrip setdefault
+split splitlines startswith strip update upper values zfill bit_length
+""".split())
 DUNDERS = {"__init__", "__eq__", "__repr__", "__str__", "__len__"}
 
 
@@ -130,6 +135,35 @@ class Language(unittest.TestCase):
             for row in tree.body:
                 if isinstance(row, ast.ImportFrom):
                     self.assertLessEqual({alias.name for alias in row.names}, used, path.name)
+
+    def test_attributes_are_plain_methods_or_the_packages_own(self):
+        own = {"__init__"}
+        for name, node in nodes():
+            if isinstance(node, ast.ClassDef):
+                own |= {deed.name for deed in node.body if isinstance(deed, ast.FunctionDef)}
+            if isinstance(node, ast.Attribute) and isinstance(node.ctx, ast.Store):
+                own.add(node.attr)
+        for name, node in nodes():
+            if isinstance(node, ast.Attribute):
+                self.assertIn(node.attr, METHODS | own, (name, node.lineno))
+
+    def test_the_top_of_a_file(self):
+        for path in FILES:
+            bound = []
+            for row in parsed(path).body:
+                self.assertIsInstance(
+                    row, (ast.Expr, ast.ImportFrom, ast.FunctionDef, ast.ClassDef, ast.Assign), path.name)
+                if isinstance(row, ast.Expr):
+                    self.assertIsInstance(row.value, ast.Constant, path.name)
+                if isinstance(row, (ast.FunctionDef, ast.ClassDef)):
+                    bound.append(row.name)
+                if isinstance(row, ast.ImportFrom):
+                    bound += [alias.name for alias in row.names]
+                if isinstance(row, ast.Assign):
+                    bound += [target.id for target in row.targets]
+                    within = [node for node in ast.walk(row.value) if node is not row.value]
+                    self.assertFalse([node for node in within if isinstance(node, (ast.List, ast.Dict, ast.Call))], path)
+            self.assertEqual(len(bound), len(set(bound)), path.name)
 
     def test_names(self):
         for name, node in nodes():

@@ -1,6 +1,5 @@
 """Promises 23 and 24: heights parted, and the bounds of their dots."""
 
-import random
 import unittest
 from fractions import Fraction
 
@@ -11,32 +10,12 @@ from rayround.errors import NoBody
 from rayround.heights import bends, crossing, crossings, fold
 from rayround.partings import bounds, parting
 from heighted import (
-    BODIED, LED_BODIED, Refused, bends_by_words, body_by_words, broken_height, height_by_words, heights_for,
-    outward_heights, read, slope_of, together, told_as, with_more,
+    BODIED, LED_BODIED, Refused, bends_by_words, body_by_words, crosses_below_nought, height_by_words, heights_for,
+    many_heights, outward_heights, read, slope_of, together, told_as, with_more,
 )
 from made import LONG, THREE, begun, slanted
 
 ALL = BODIED + LED_BODIED
-
-
-def crosses_below_nought(table):
-    """Whether a table of fractions, alike on both sides, crosses each mixture with itself below 0."""
-    rows = [[Fraction(number) for number in line] for line in table]
-    for at, line in enumerate(rows):
-        if line[at] >= 0:
-            return False
-        for later in rows[at + 1:]:
-            part = later[at] / line[at]
-            for k, number in enumerate(line):
-                later[k] -= part * number
-    return True
-
-
-def many_heights(rays, seed):
-    dice = random.Random(f"{seed} {rays}")
-    heights = heights_for(rays, seed)
-    lifted = [together(height, [(dice.randint(1, 5), 1)] * len(rays)) for height in heights[:5]]
-    return heights + lifted + [broken_height(dice, len(rays), 10 ** 30)]
 
 
 class PartCase(Refused):

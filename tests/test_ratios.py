@@ -3,10 +3,10 @@
 import copy
 import unittest
 from fractions import Fraction
-from math import gcd
+from math import gcd, lcm
 
 from rayround.errors import NoRatio
-from rayround.ratios import less, minus, plus, ratio, times
+from rayround.ratios import common_bottom, greatest, is_ratio, less, minus, plus, ratio, stretched, times
 from things import LARGE, NOT_WHOLE, deep
 
 NEAR = list(range(-12, 13))
@@ -149,6 +149,29 @@ class Less(unittest.TestCase):
         high = 10 ** 50
         self.assertIs(less((high, high + 1), (high + 1, high + 2)), True)
         self.assertIs(less((high + 1, high + 2), (high, high + 1)), False)
+
+
+class Several(unittest.TestCase):
+    def test_which_things_are_ratios(self):
+        for one in SMALL_RATIOS + LARGE_RATIOS:
+            self.assertIs(is_ratio(one), True)
+            self.assertIs(is_ratio(list(one)), False)
+            self.assertIs(is_ratio((2 * one[0], 2 * one[1])), False)
+            self.assertIs(is_ratio((-one[0], -one[1])), False)
+            self.assertIs(is_ratio(one + (1,)), False)
+        for thing in NOT_WHOLE[:-3] + [0, 1, (0, 0), (1, 0), (0, 2), (True, 1), (1, True), (None, 1), (1, "2"), deep((1, 2), 5)]:
+            self.assertIs(is_ratio(thing), False)
+
+    def test_the_greatest_and_the_common_bottom(self):
+        for many in (1, 2, 3, 10):
+            for at in range(len(SMALL_RATIOS) - many):
+                ones = SMALL_RATIOS[at:at + many]
+                self.assertEqual(value(greatest(ones)), max(map(value, ones)))
+                self.assertEqual(greatest(ones[::-1]), greatest(ones))
+                bottom = common_bottom(ones)
+                self.assertEqual(bottom, lcm(*[one[1] for one in ones]))
+                self.assertEqual([stretched(one, bottom) for one in ones], [value(one) * bottom for one in ones])
+        self.assertEqual(common_bottom([]), 1)
 
 
 if __name__ == "__main__":
