@@ -53,6 +53,7 @@ def read_place(word):
 
 def read_parts(form, words):
     """What the words behind the first one tell, part by part."""
+    # A word of no signs (two blanks together, or one at the end) is counted too: the part it falls in refuses it.
     longer = form[-1] in ("ROUND", "HEIGHT")
     if len(words) < len(form) or (len(words) > len(form) and not longer):
         raise NoRow("the row has another number of words")
@@ -210,8 +211,7 @@ class Desk:
         if not isinstance(row, str):
             raise NoRow("the row is no text")
         words = row.split(" ")
-        # Two blanks together are no row, wherever they stand: not even where a round or a height is written.
-        if words[0] not in FORMS or "  " in row:
+        if words[0] not in FORMS:
             raise NoRow("the row is none that the desk knows")
         parts = read_parts(FORMS[words[0]], words[1:])
         deed = DEEDS[words[0]]

@@ -213,15 +213,27 @@ class Refusals(DeskCase):
         ]:
             self.refused(NoRow, row)
 
-    def test_blanks(self):
+    def test_blanks_where_no_round_or_height_is_written(self):
         for row in [
             " show a", "show a ", "show  a", "  show a", "show a  ", "show ", "put  a 0", "put a  0", "put a 0 ",
-            "cross a  h h", "round  a 1,0 0,1 -1,-1", "round a  1,0 0,1 -1,-1", "round a 1,0  0,1 -1,-1",
-            "height a h  1 1 1 1", "height a h 1 1  1 1", "height  a h 1 1 1 1", "height a  h 1 1 1 1", "show  ",
+            "cross a  h h", "round  a 1,0 0,1 -1,-1", "height  a h 1 1 1 1", "height a  h 1 1 1 1", "show  ",
+            "  round a 1,0 0,1 -1,-1", " height a h 1 1 1 1", "round ", "round  ", "height ", "height a ", "height a  ",
+            "round  a 1,0  0,1 -1,-1", "height a  h 1 1  1 1", "round A 1,0  0,1 -1,-1", "height a H 1 1  1 1",
+            "height A h  1 1 1 1",
         ]:
             self.refused(NoRow, row)
-        for row in ["round a 1,0 0,1 -1,-1 ", "height a h 1 1 1 1 "]:
-            self.refused(NoText, row)
+
+    def test_blanks_in_a_round_or_a_height(self):
+        for name in ("a", "rough", "nobody"):
+            for head, text in [(f"round {name}", THREE_TEXT), (f"height {name} h", "1 1 1 1"), (f"height {name} new", "1/2")]:
+                for at, sign in enumerate(text):
+                    if sign == " ":
+                        for blanks in ("  ", "   "):
+                            self.refused(NoText, f"{head} {text[:at]}{blanks}{text[at + 1:]}")
+                for spoilt in [f" {text}", f"  {text}", f"{text} ", f"{text}  ", f" {text} ", "", " ", "  "]:
+                    self.refused(NoText, f"{head} {spoilt}")
+        super().refused(Unknown, "show nobody")
+        super().refused(Unknown, "bends a new")
 
     def test_names(self):
         for name in ["A", "aB", "a1", "1", "a_b", "_", "abcdefghi", "a-b", "-", "a.", "a,", "0", "a" * 60, "~", "\t"]:
